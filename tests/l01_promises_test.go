@@ -2,6 +2,7 @@ package tests
 
 import (
 	"math"
+	"reflect"
 	"slices"
 	"testing"
 
@@ -52,7 +53,7 @@ func results[T any](value T, code int64) any { return pair{value, code} }
 // twice fails if two equal calls have different results.
 func twice(t *testing.T, call func() any) {
 	t.Helper()
-	if one, two := call(), call(); one != two {
+	if one, two := call(), call(); !reflect.DeepEqual(one, two) {
 		t.Errorf("got %+v, then %+v", one, two)
 	}
 }
