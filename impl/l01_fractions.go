@@ -310,11 +310,8 @@ func (a Frac) over(b Frac) Frac {
 	return lowest(a.P*b.Q, a.Q*b.P)
 }
 
-// nearest returns the integer that is at most half a unit more than a / unit,
-// and less than half a unit less: the greatest one at most a / unit + 1/2.
 func (a Frac) nearest(unit Frac) int64 {
-	p, q := a.P*unit.Q, a.Q*unit.P
-	return fitting(floorDiv(2*p+q, 2*q), 1).P
+	return fitting(nearestDiv(a.P*unit.Q, a.Q*unit.P), 1).P
 }
 
 // order returns -1, 0 or 1. Each value has one fraction in lowest terms, so
@@ -472,3 +469,8 @@ func floorDiv(p, q int64) int64 {
 	}
 	return p / q
 }
+
+// nearestDiv returns the integer that is at most half of one more than p / q,
+// and less than half of one less: the greatest one at most p / q + 1/2. q is
+// greater than 0.
+func nearestDiv(p, q int64) int64 { return floorDiv(2*p+q, 2*q) }
