@@ -374,6 +374,10 @@ func checkList[T any](list []T, isValid func(T) bool, least int) int64 {
 	return OK
 }
 
+func areFracs(list []Frac) bool {
+	return !slices.ContainsFunc(list, func(a Frac) bool { return !ValidFrac(a) })
+}
+
 // ofList checks a list with at least so many fractions and calculates one of them.
 func ofList(list []Frac, least int, calculate func([]Frac) Frac) (Frac, int64) {
 	if code := checkList(list, ValidFrac, least); code != OK {
@@ -431,6 +435,30 @@ func sortedFracs(list []Frac) []Frac {
 		}
 	}
 	return sorted
+}
+
+// wordsOf returns the texts of fractions, separated by blanks.
+func wordsOf(list []Frac) string {
+	var words []string
+	for _, a := range list {
+		words = append(words, FracText(a))
+	}
+	return strings.Join(words, " ")
+}
+
+// readWords returns the fractions that have the given texts, separated by
+// blanks: at least one, and at most so many.
+func readWords(text string, most int) ([]Frac, int64) {
+	// If there are more words, the last one keeps its blanks and is no fraction.
+	var list []Frac
+	for _, word := range strings.SplitN(text, " ", most) {
+		a, code := ReadFrac(word)
+		if code != OK {
+			return nil, code
+		}
+		list = append(list, a)
+	}
+	return list, OK
 }
 
 // lowest returns p / q in lowest terms. q is not 0, and the parts are far

@@ -155,7 +155,7 @@ func readingCode(d Disk, unit int64, angles ...int64) int64 {
 }
 
 // sameList fails if a list and its code are not those that are expected.
-func sameList(t *testing.T, what any, got []int64, code int64, want []int64, wantCode int64) {
+func sameList[T comparable](t *testing.T, what any, got []T, code int64, want []T, wantCode int64) {
 	t.Helper()
 	if !slices.Equal(got, want) || code != wantCode {
 		t.Errorf("%+v: got %v and %s, want %v and %s", what, got, impl.CodeName(code), want, impl.CodeName(wantCode))
