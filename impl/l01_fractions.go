@@ -177,7 +177,7 @@ func WidthOf(s Span) (Frac, int64) {
 	if !ValidSpan(s) {
 		return Frac{}, ErrInvalid
 	}
-	return told(func() Frac { return s.High.minus(s.Low) })
+	return told(s.width)
 }
 
 // AddSpans returns the span of all sums.
@@ -352,6 +352,8 @@ func (s Span) times(t Span) Span {
 	ends := []Frac{s.Low.times(t.Low), s.Low.times(t.High), s.High.times(t.Low), s.High.times(t.High)}
 	return Span{Low: slices.MinFunc(ends, Frac.order), High: slices.MaxFunc(ends, Frac.order)}
 }
+
+func (s Span) width() Frac { return s.High.minus(s.Low) }
 
 // ofSpans checks two spans and joins them.
 func ofSpans(s, t Span, join func(s, t Span) Span) (Span, int64) {
