@@ -396,13 +396,18 @@ func sumOf(list []Frac) Frac {
 	return sum
 }
 
-// meanBy returns the mean of what a list has, each item standing for a fraction.
-func meanBy[T averaged](list []T, value func(T) Frac) Frac {
+// valuesBy returns the fractions for which the items of a list stand.
+func valuesBy[T averaged](list []T, value func(T) Frac) []Frac {
 	values := make([]Frac, len(list))
 	for i, x := range list {
 		values[i] = value(x)
 	}
-	return sumOf(values).over(fitting(int64(len(values)), 1))
+	return values
+}
+
+// meanBy returns the mean of what a list has, each item standing for a fraction.
+func meanBy[T averaged](list []T, value func(T) Frac) Frac {
+	return sumOf(valuesBy(list, value)).over(fitting(int64(len(list)), 1))
 }
 
 func meanOfFracs(list []Frac) Frac {
@@ -484,7 +489,8 @@ func fitting(p, q int64) Frac {
 // isGreater compares without changing a sign: the least integer has no size.
 func isGreater(n, most int64) bool { return n < -most || n > most }
 
-// commonDivisor returns the greatest common divisor of p and q; q is greater than 0.
+// commonDivisor returns the greatest common divisor of p and q, and 0 if both
+// are 0; q is at least 0.
 func commonDivisor(p, q int64) int64 {
 	for p != 0 {
 		p, q = q%p, p
