@@ -355,6 +355,18 @@ func (s Span) times(t Span) Span {
 
 func (s Span) width() Frac { return s.High.minus(s.Low) }
 
+// metBy returns what is in all of some valid spans, at least one, and whether
+// there is anything.
+func metBy(spans []Span) (Span, bool) {
+	met, code := spans[0], int64(OK)
+	for _, s := range spans {
+		if met, code = MeetSpans(met, s); code != OK {
+			return Span{}, false
+		}
+	}
+	return met, true
+}
+
 // ofSpans checks two spans and joins them.
 func ofSpans(s, t Span, join func(s, t Span) Span) (Span, int64) {
 	if !ValidSpan(s) || !ValidSpan(t) {

@@ -3,6 +3,7 @@ package tests
 import (
 	"math"
 	"math/big"
+	"runtime"
 	"testing"
 
 	"loop.example/g01254/impl"
@@ -130,4 +131,33 @@ func repeated[T any](x T, n int) []T {
 		list[i] = x
 	}
 	return list
+}
+
+// nearly calls check with a text, and with what it is if a byte is left out, put in, or changed.
+func nearly(text string, letters []string, check func(text string)) {
+	check(text)
+	for i := range text {
+		check(text[:i])
+		check(text[i:])
+		check(text[:i] + text[i+1:])
+		for _, letter := range letters {
+			check(text[:i] + letter + text[i:])
+			check(text[:i] + letter + text[i+1:])
+		}
+	}
+	for _, letter := range letters {
+		check(text + letter)
+	}
+}
+
+// waitUntilThereAre fails if there stay more goroutines than there were before.
+func waitUntilThereAre(t *testing.T, before int) {
+	t.Helper()
+	for range 1000000 {
+		if runtime.NumGoroutine() <= before {
+			return
+		}
+		runtime.Gosched()
+	}
+	t.Errorf("there were %d goroutines, and are %d", before, runtime.NumGoroutine())
 }

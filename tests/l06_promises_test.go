@@ -217,13 +217,7 @@ func TestPromise1HabitsAreFoundAtTheSameTime(t *testing.T) {
 		})
 	}
 	all.Wait()
-	for range 1000000 {
-		if runtime.NumGoroutine() <= before {
-			return
-		}
-		runtime.Gosched()
-	}
-	t.Errorf("there were %d goroutines, and are %d", before, runtime.NumGoroutine())
+	waitUntilThereAre(t, before)
 }
 
 // onRead calls check with readers, values, and what has been read of them.
